@@ -2,7 +2,11 @@
 // All its types are arrays and small structs, values that are copied by assigning.
 package layout
 
-import "vellum/api"
+import (
+	"bytes"
+
+	"vellum/api"
+)
 
 // Where the clusters stand whose place never changes.
 const (
@@ -19,9 +23,13 @@ const (
 	PerTable = api.Size / 2
 )
 
+const magic = "VELM"
+
+// How an entry of the list is laid out.
 const (
-	magic     = "VELM"
 	entrySize = api.Size / api.MaxPictures
+	nameAt    = 2
+	nameEnd   = nameAt + api.MaxName
 )
 
 // Number tells a cluster, with or without the mark; 0 tells none.
@@ -32,6 +40,9 @@ func Own(cluster int) Number { return Number(cluster) | api.Mark }
 
 // Cluster is the cluster that the number tells.
 func (n Number) Cluster() int { return int(n &^ api.Mark) }
+
+// Shared is the number without the mark.
+func (n Number) Shared() Number { return n &^ api.Mark }
 
 // Marked says whether what the number tells is used by it alone.
 func (n Number) Marked() bool { return n&api.Mark != 0 }
@@ -93,9 +104,68 @@ func (t Counts) Part(part int) api.Cluster {
 	return api.Cluster(t[part*api.Size : (part+1)*api.Size])
 }
 
-// PictureFirst is the first table of the picture whose entry in the list is the i-th, or 0.
-func PictureFirst(list api.Cluster, i int) int {
-	return int(numberAt(list, i*entrySize))
+// Picture is an entry of the list; one without a first table is none.
+type Picture struct {
+	Name  string
+	First int // the picture's first table
+}
+
+// List is the pictures in the order in which they were taken; what is no
+// picture stands behind them.
+type List [api.MaxPictures]Picture
+
+// ListOf reads the list.
+func ListOf(c api.Cluster) List {
+	var l List
+	for i := range l {
+		entry := c[i*entrySize : (i+1)*entrySize]
+		name, _, _ := bytes.Cut(entry[nameAt:nameEnd], []byte{0})
+		l[i] = Picture{Name: string(name), First: int(numberAt(c, i*entrySize))}
+	}
+	return l
+}
+
+// Cluster is the list as it stands in the file.
+func (l List) Cluster() api.Cluster {
+	var c api.Cluster
+	for i, p := range l {
+		entry := c[i*entrySize : (i+1)*entrySize]
+		copy(entry[nameAt:nameEnd], p.Name)
+		putNumber(&c, i*entrySize, Number(p.First))
+	}
+	return c
+}
+
+// Len is how many pictures there are.
+func (l List) Len() int {
+	n := 0
+	for n < len(l) && l[n].First != 0 {
+		n++
+	}
+	return n
+}
+
+// Find is the place of the picture of that name, or -1.
+func (l List) Find(name string) int {
+	for i, p := range l[:l.Len()] {
+		if p.Name == name {
+			return i
+		}
+	}
+	return -1
+}
+
+// With is the list with one picture more, for which there has to be room.
+func (l List) With(p Picture) List {
+	l[l.Len()] = p
+	return l
+}
+
+// Without is the list in which those behind the i-th have moved up.
+func (l List) Without(i int) List {
+	copy(l[i:], l[i+1:])
+	l[len(l)-1] = Picture{}
+	return l
 }
 
 func numberAt(c api.Cluster, at int) Number {

@@ -28,7 +28,7 @@ func TestNumber(t *testing.T) {
 		if x := Own(n); !x.Marked() || x.Cluster() != n || int(x) != n+api.Mark {
 			t.Errorf("Own(%d) = %x", n, x)
 		}
-		if x := Number(n); x.Marked() || x.Cluster() != n {
+		if x := Number(n); x.Marked() || x.Cluster() != n || x.Shared() != x || Own(n).Shared() != x {
 			t.Errorf("Number(%d) = %x", n, x)
 		}
 	}
@@ -64,12 +64,63 @@ func TestCounts(t *testing.T) {
 	}
 }
 
-func TestPictureFirst(t *testing.T) {
-	list := text("\x00\x09name")
-	copy(list[48:], "\x01\x02other")
-	for i, want := range []int{9, 0, 0, 0x102} {
-		if got := PictureFirst(list, i); got != want {
-			t.Errorf("entry %d: %d", i, got)
+func TestList(t *testing.T) {
+	var list List
+	for i, p := range []Picture{{"a", 9}, {"twelveletter", 255}, {"bc", 6}, {"d", 0x102}} {
+		if list.Len() != i || list.Find(p.Name) != -1 {
+			t.Errorf("of %d pictures: Len() = %d, Find(%s) = %d", i, list.Len(), p.Name, list.Find(p.Name))
 		}
+		list = list.With(p)
+		if list.Find(p.Name) != i {
+			t.Errorf("Find(%s) = %d", p.Name, list.Find(p.Name))
+		}
+	}
+	want := text("\x00\x09a")
+	copy(want[16:], "\x00\xfftwelveletter")
+	copy(want[32:], "\x00\x06bc")
+	copy(want[48:], "\x01\x02d")
+	if got := list.Cluster(); got != want {
+		t.Errorf("list: %q", got)
+	}
+	if got := ListOf(want); got != list {
+		t.Errorf("list read: %v", got)
+	}
+	if list.Len() != 4 || list.Find("") != -1 {
+		t.Errorf("Len() = %d, Find() = %d", list.Len(), list.Find(""))
+	}
+}
+
+func TestListWithout(t *testing.T) {
+	all := List{{"a", 6}, {"b", 7}, {"c", 8}, {"d", 9}}
+	for i, want := range []List{
+		{{"b", 7}, {"c", 8}, {"d", 9}},
+		{{"a", 6}, {"c", 8}, {"d", 9}},
+		{{"a", 6}, {"b", 7}, {"d", 9}},
+		{{"a", 6}, {"b", 7}, {"c", 8}},
+	} {
+		if got := all.Without(i); got != want || got.Len() != 3 {
+			t.Errorf("without the one at %d: %v", i, got)
+		}
+	}
+	if all.Len() != 4 {
+		t.Error("the list itself has changed")
+	}
+}
+
+// TestListOfAny: any bytes can be read; what an entry has no room for is not written.
+func TestListOfAny(t *testing.T) {
+	var c api.Cluster
+	for i := range c {
+		c[i] = 'z'
+	}
+	list := ListOf(c)
+	if list.Len() != 4 || list[3] != (Picture{"zzzzzzzzzzzz", 0x7a7a}) {
+		t.Errorf("list read: %v", list)
+	}
+	for i := range list {
+		c[16*i+14], c[16*i+15] = 0, 0
+	}
+	if got := list.Cluster(); got != c {
+		t.Errorf("list: %q", got)
 	}
 }

@@ -38,20 +38,43 @@ func (d *Disk) Write(block int, data api.Cluster) api.Errno {
 }
 
 // Take takes a picture (P4).
-func (d *Disk) Take(name string) api.Errno { return api.OK }
+func (d *Disk) Take(name string) api.Errno {
+	if !d.made() {
+		return api.ErrForm
+	}
+	return d.inner.Take(name)
+}
 
 // Return makes the disk what a picture is (P4).
-func (d *Disk) Return(name string) api.Errno { return api.OK }
+func (d *Disk) Return(name string) api.Errno {
+	if !d.made() {
+		return api.ErrForm
+	}
+	return d.inner.Return(name)
+}
 
 // Drop drops a picture (P4).
-func (d *Disk) Drop(name string) api.Errno { return api.OK }
+func (d *Disk) Drop(name string) api.Errno {
+	if !d.made() {
+		return api.ErrForm
+	}
+	return d.inner.Drop(name)
+}
 
 // List tells the pictures (P4).
-func (d *Disk) List() []string { return nil }
+func (d *Disk) List() []string {
+	if !d.made() {
+		return nil
+	}
+	return d.inner.List()
+}
 
 // ReadOf tells a picture's block (P4).
 func (d *Disk) ReadOf(name string, block int) (api.Cluster, api.Errno) {
-	return api.Cluster{}, api.OK
+	if !d.made() {
+		return api.Cluster{}, api.ErrForm
+	}
+	return d.inner.ReadOf(name, block)
 }
 
 // File tells the file (P5).

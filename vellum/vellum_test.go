@@ -2,7 +2,6 @@ package vellum_test
 
 import (
 	"math"
-	"math/rand"
 	"slices"
 	"strconv"
 	"testing"
@@ -31,19 +30,43 @@ func write(t *testing.T, d *vellum.Disk, block int, data api.Cluster) {
 	}
 }
 
-// holds: P3, P5 and P6 at once: what the disk holds, by its calls, by its file and by its log.
+func take(t *testing.T, d *vellum.Disk, name string) {
+	t.Helper()
+	if e := d.Take(name); e != api.OK {
+		t.Fatalf("P4: Take(%s) = %d", name, e)
+	}
+}
+
+// holds: a disk without pictures.
 func holds(t *testing.T, d *vellum.Disk, want [api.Blocks]api.Cluster) {
 	t.Helper()
+	tells(t, d, oracle.Told{Disk: want})
+}
+
+// tells: P3 to P6 at once: what the disk and its pictures hold, by the calls, by the file and by the log.
+func tells(t *testing.T, d *vellum.Disk, want oracle.Told) {
+	t.Helper()
 	for n := range api.Blocks {
-		if c, e := d.Read(n); c != want[n] || e != api.OK {
+		if c, e := d.Read(n); c != want.Disk[n] || e != api.OK {
 			t.Errorf("P3: Read(%d) = %q, %d", n, c, e)
+		}
+	}
+	names := slices.DeleteFunc(slices.Clone(want.Names[:]), func(s string) bool { return s == "" })
+	if l := d.List(); !slices.Equal(l, names) {
+		t.Errorf("P4: List() = %q, want %q", l, names)
+	}
+	for i, name := range names {
+		for n := range api.Blocks {
+			if c, e := d.ReadOf(name, n); c != want.Pictures[i][n] || e != api.OK {
+				t.Errorf("P4: ReadOf(%s, %d) = %q, %d", name, n, c, e)
+			}
 		}
 	}
 	file, log := d.File(), d.Log()
 	if err := oracle.Exact(file); err != nil {
 		t.Errorf("P5: the file is not exact: %v", err)
 	}
-	if told, _ := oracle.Sound(file); told != (oracle.Told{Disk: want}) {
+	if told, _ := oracle.Sound(file); told != want {
 		t.Errorf("P5: the file tells another disk")
 	}
 	for i, w := range log {
@@ -163,7 +186,15 @@ func TestNoDisk(t *testing.T) {
 				t.Errorf("P1: Write(%d) = %d", n, e)
 			}
 		}
-		if d.File() != nil || d.Log() != nil {
+		for _, e := range []api.Errno{d.Take("a"), d.Return("a"), d.Drop("a")} {
+			if e == api.OK {
+				t.Errorf("P1: a picture where there is no disk")
+			}
+		}
+		if c, e := d.ReadOf("a", 0); c != (api.Cluster{}) || e == api.OK {
+			t.Errorf("P1: ReadOf(a, 0) = %q, %d", c, e)
+		}
+		if d.File() != nil || d.Log() != nil || d.List() != nil {
 			t.Errorf("P1: a file where there is none")
 		}
 	}
@@ -197,10 +228,13 @@ func TestNewMemory(t *testing.T) {
 func TestReadsWriteNothing(t *testing.T) {
 	d := vellum.New()
 	write(t, d, 5, text("five"))
+	take(t, d, "a")
 	log := d.Log()
 	for n := range api.Blocks {
 		d.Read(n)
+		d.ReadOf("a", n)
 	}
+	d.List()
 	d.File()
 	if !slices.Equal(d.Log(), log) {
 		t.Errorf("P6: the log has grown though nothing was written")
@@ -236,31 +270,4 @@ func TestLogGrows(t *testing.T) {
 			t.Fatalf("P6: behind %d writes the log has gone on wrongly", n+1)
 		}
 	}
-}
-
-// TestCut: P7 for all writes of a disk: each file that a cut may leave is sound
-// and tells the disk as it was before the call or as it is behind it.
-func TestCut(t *testing.T) {
-	r := rand.New(rand.NewSource(7))
-	d := vellum.New()
-	var now oracle.Told
-	for range 300 {
-		file, from, before := d.File(), len(d.Log()), now
-		n := r.Intn(api.Blocks)
-		now.Disk[n] = api.Cluster{}
-		if r.Intn(8) > 0 {
-			r.Read(now.Disk[n][:])
-		}
-		write(t, d, n, now.Disk[n])
-		for cut := range oracle.Cuts(file, d.Log()[from:]) {
-			told, err := oracle.Sound(cut)
-			if err != nil {
-				t.Fatalf("P7: a cut in Write(%d) leaves a file that is not sound: %v", n, err)
-			}
-			if told != before && told != now {
-				t.Fatalf("P7: a cut in Write(%d) leaves a disk that never was", n)
-			}
-		}
-	}
-	holds(t, d, now.Disk)
 }

@@ -2,9 +2,7 @@ package volume
 
 import (
 	"iter"
-	"slices"
 
-	"vellum/api"
 	"vellum/layout"
 )
 
@@ -23,15 +21,21 @@ func (v *Volume) lowestFree(want int) []int {
 	return free
 }
 
-// claim counts free clusters, in rising order, as used once. The head has to be
-// there ahead of them: nothing may be written or counted behind the file's end.
-func (v *Volume) claim(fresh []int) {
+// lengthen makes the head say that the file has these clusters, in rising order.
+// It has to be there ahead of them: nothing may be written or counted behind the
+// file's end.
+func (v *Volume) lengthen(fresh []int) {
 	h := v.head()
 	if last := fresh[len(fresh)-1]; last >= h.Clusters {
 		h.Clusters = last + 1
 		v.putHead(h)
 		v.file.Flush()
 	}
+}
+
+// claim counts free clusters, in rising order, as used once.
+func (v *Volume) claim(fresh []int) {
+	v.lengthen(fresh)
 	counts := v.counts()
 	for _, n := range fresh {
 		counts[n] = 1
@@ -39,37 +43,43 @@ func (v *Volume) claim(fresh []int) {
 	v.putCounts(counts)
 }
 
-// letGo takes one use from each cluster that is told, and marks the number that
-// is then the last one to tell it.
-func (v *Volume) letGo(numbers ...layout.Number) {
+// letGo takes a use from each of the clusters, as often as they come, and marks
+// the number that is then the last one to tell it.
+func (v *Volume) letGo(used iter.Seq[int]) {
 	counts := v.counts()
-	var lone []int
-	for _, n := range numbers {
-		if n == 0 {
-			continue
-		}
-		counts[n.Cluster()]--
-		if counts[n.Cluster()] == 1 {
-			lone = append(lone, n.Cluster())
-		}
+	for n := range used {
+		counts[n]--
 	}
 	v.putCounts(counts)
 	v.file.Flush()
-	v.markLone(lone)
+	v.markLone()
 	v.file.Flush()
 }
 
-// markLone marks the numbers that tell these clusters, whose counts are 1.
-func (v *Volume) markLone(lone []int) {
-	if len(lone) == 0 {
-		return
+// markLone marks the numbers that tell clusters whose counts are 1: no other
+// number can tell the same.
+func (v *Volume) markLone() {
+	counts := v.counts()
+	lone := func(n layout.Number) layout.Number {
+		if c := n.Cluster(); counts[c] == 1 {
+			return layout.Own(c)
+		}
+		return n
 	}
 	for first := range v.firsts() {
-		for s := range v.told(first) {
-			if n := s.number.Cluster(); slices.Contains(lone, n) {
-				v.putNumber(s.table, s.index, layout.Own(n))
-			}
+		v.renumber(first, lone)
+	}
+}
+
+// renumber changes the numbers by which a first table tells what it uses, each
+// table in one write.
+func (v *Volume) renumber(first int, change func(layout.Number) layout.Number) {
+	for table := range v.tables(first) {
+		changed := v.table(table)
+		for s := range v.numbers(table) {
+			changed[s.index] = change(s.number)
 		}
+		v.file.Put(table, changed.Cluster())
 	}
 }
 
@@ -85,10 +95,23 @@ func (v *Volume) firsts() iter.Seq[int] {
 		if !yield(v.head().First) {
 			return
 		}
-		list := v.file.At(layout.ListAt)
-		for i := range api.MaxPictures {
-			first := layout.PictureFirst(list, i)
-			if first == 0 || !yield(first) {
+		list := v.list()
+		for _, p := range list[:list.Len()] {
+			if !yield(p.First) {
+				return
+			}
+		}
+	}
+}
+
+// held goes through what a first table keeps from being free: itself, and what it uses.
+func (v *Volume) held(first int) iter.Seq[int] {
+	return func(yield func(int) bool) {
+		if !yield(first) {
+			return
+		}
+		for s := range v.told(first) {
+			if !yield(s.number.Cluster()) {
 				return
 			}
 		}
@@ -112,11 +135,36 @@ func (v *Volume) told(first int) iter.Seq[spot] {
 	}
 }
 
+// tables goes through a first table and its second tables.
+func (v *Volume) tables(first int) iter.Seq[int] {
+	return func(yield func(int) bool) {
+		if !yield(first) {
+			return
+		}
+		for s := range v.numbers(first) {
+			if !yield(s.number.Cluster()) {
+				return
+			}
+		}
+	}
+}
+
 // numbers goes through the numbers of one table.
 func (v *Volume) numbers(table int) iter.Seq[spot] {
 	return func(yield func(spot) bool) {
 		for i, n := range v.table(table) {
 			if n != 0 && !yield(spot{table, i, n}) {
+				return
+			}
+		}
+	}
+}
+
+// clusters goes through those that the numbers tell, if they tell any.
+func clusters(numbers ...layout.Number) iter.Seq[int] {
+	return func(yield func(int) bool) {
+		for _, n := range numbers {
+			if n != 0 && !yield(n.Cluster()) {
 				return
 			}
 		}

@@ -1,11 +1,12 @@
 // Package volume keeps a disk of blocks in a file, so that no cut spoils it.
 //
 // The order of the writes is the same throughout: first the file is made
-// longer, then what is new is written to free clusters and counted, then one
-// single write makes it part of the disk, then what it took the place of is
-// let go, then what is used once from now on gets its mark. Each of these is
-// flushed ahead of the next, so that at any cut no count is too low, no number
-// tells what is not there yet, and no mark stands where another use is left.
+// longer, then what is going to be shared loses its mark, then what is new is
+// written to free clusters and counted, then one single write makes it part of
+// the disk or of a picture, then what it took the place of is let go, then what
+// is used once from now on gets its mark. Each of these is flushed ahead of the
+// next, so that at any cut no count is too low, no number tells what is not
+// there yet, and no mark stands where another use is left.
 package volume
 
 import (
@@ -44,10 +45,15 @@ func (v *Volume) Log() []api.Write { return v.file.Log() }
 
 // Read tells what a block of the disk holds.
 func (v *Volume) Read(block int) (api.Cluster, api.Errno) {
+	return v.read(v.head().First, block)
+}
+
+// read tells what a block holds by a first table, the disk's or a picture's.
+func (v *Volume) read(first, block int) (api.Cluster, api.Errno) {
 	if !isBlock(block) {
 		return api.Cluster{}, api.ErrNumber
 	}
-	p := v.find(v.head().First, block)
+	p := v.find(first, block)
 	if p.block == 0 {
 		return api.Cluster{}, api.OK
 	}
@@ -84,6 +90,10 @@ func (v *Volume) find(first, block int) place {
 func (v *Volume) head() layout.Head { return layout.HeadOf(v.file.At(layout.HeadAt)) }
 
 func (v *Volume) putHead(h layout.Head) { v.file.Put(layout.HeadAt, h.Cluster()) }
+
+func (v *Volume) list() layout.List { return layout.ListOf(v.file.At(layout.ListAt)) }
+
+func (v *Volume) putList(l layout.List) { v.file.Put(layout.ListAt, l.Cluster()) }
 
 func (v *Volume) table(n int) layout.Table { return layout.TableOf(v.file.At(n)) }
 

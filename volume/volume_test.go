@@ -90,33 +90,51 @@ func sound(t *testing.T, file []api.Cluster) oracle.Told {
 	return told
 }
 
-// written: P3 and P7: writes a block; at every cut the file is sound and tells
-// what it did before or does behind. Answers how much longer the file is.
-func written(t *testing.T, v *Volume, block int, data api.Cluster) int {
+// made: P5 to P7: makes a call that is not refused; at every cut the file is
+// sound and tells what it did before or does behind. Answers how much longer
+// the file is.
+func made(t *testing.T, v *Volume, what string, call func() api.Errno, behind oracle.Told) int {
 	t.Helper()
 	file, from := v.File(), len(v.Log())
 	before := sound(t, file)
-	behind := before
-	behind.Disk[block] = data
-	if e := v.Write(block, data); e != api.OK {
-		t.Fatalf("P3: Write(%d) = %d", block, e)
+	if e := call(); e != api.OK {
+		t.Fatalf("P3, P4: %s = %d", what, e)
 	}
 	log := v.Log()[from:]
 	for cut := range oracle.Cuts(file, log) {
 		if told := sound(t, cut); told != before && told != behind {
-			t.Fatalf("P7: a cut in Write(%d) leaves a disk that never was", block)
+			t.Fatalf("P7: a cut in %s leaves a disk that never was", what)
 		}
 	}
 	if !slices.Equal(oracle.Replay(file, log), v.File()) {
-		t.Errorf("P6: the log leads to another file")
+		t.Errorf("P6: %s: the log leads to another file", what)
 	}
 	if len(log) > 0 && log[len(log)-1].Cluster != -1 {
-		t.Errorf("P6: Write(%d) does not end with a flush", block)
+		t.Errorf("P6: %s does not end with a flush", what)
 	}
 	if sound(t, v.File()) != behind {
-		t.Errorf("P3: Write(%d) leaves another disk", block)
+		t.Errorf("P3, P4: %s leaves another disk", what)
 	}
 	return len(v.File()) - len(file)
+}
+
+// refused: P1: a call that is refused changes nothing.
+func refused(t *testing.T, v *Volume, what string, call func() api.Errno, want api.Errno) {
+	t.Helper()
+	file, log := v.File(), v.Log()
+	if e := call(); e != want {
+		t.Errorf("P3, P4: %s = %d, want %d", what, e, want)
+	}
+	if !slices.Equal(v.File(), file) || !slices.Equal(v.Log(), log) {
+		t.Errorf("P1: %s: a refused call has changed something", what)
+	}
+}
+
+func written(t *testing.T, v *Volume, block int, data api.Cluster) int {
+	t.Helper()
+	behind := sound(t, v.File())
+	behind.Disk[block] = data
+	return made(t, v, "Write", func() api.Errno { return v.Write(block, data) }, behind)
 }
 
 func exact(t *testing.T, v *Volume) {
@@ -180,14 +198,8 @@ func TestWriteFull(t *testing.T) {
 				written(t, v, c.block, text("new"))
 				continue
 			}
-			file, log := v.File(), v.Log()
 			for _, data := range []api.Cluster{text("new"), {}} {
-				if e := v.Write(c.block, data); e != api.ErrFull {
-					t.Errorf("P3: %s: with %d clusters free Write = %d", name, free, e)
-				}
-			}
-			if !slices.Equal(v.File(), file) || !slices.Equal(v.Log(), log) {
-				t.Errorf("P1: %s: a refused write has changed something", name)
+				refused(t, v, name, func() api.Errno { return v.Write(c.block, data) }, api.ErrFull)
 			}
 		}
 	}

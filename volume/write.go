@@ -35,7 +35,7 @@ func (v *Volume) writeNewBlock(p place, data api.Cluster) api.Errno {
 	v.file.Flush()
 	v.putNumber(p.second.Cluster(), p.inSecond, layout.Own(block))
 	v.file.Flush()
-	v.letGo(p.block)
+	v.letGo(clusters(p.block))
 	return api.OK
 }
 
@@ -56,6 +56,6 @@ func (v *Volume) writeNewTable(p place, data api.Cluster) api.Errno {
 	v.file.Flush()
 	v.putNumber(p.first, p.inFirst, layout.Own(second))
 	v.file.Flush()
-	v.letGo(p.second, p.block)
+	v.letGo(clusters(p.second, p.block))
 	return api.OK
 }
