@@ -21,6 +21,8 @@ const (
 	CountParts = api.MaxClusters / api.Size
 	// PerTable is how many numbers a table has.
 	PerTable = api.Size / 2
+	// PerFirst is how many of a first table's numbers are used.
+	PerFirst = api.Blocks / PerTable
 )
 
 const magic = "VELM"

@@ -19,10 +19,18 @@ type Told struct {
 	Pictures [api.MaxPictures][api.Blocks]api.Cluster
 }
 
+// Wrong is why a file is not sound.
+type Wrong struct {
+	At   int // the cluster that Open has to tell
+	Text string
+}
+
+func (w Wrong) Error() string { return w.Text + ", by cluster " + strconv.Itoa(w.At) }
+
 // told is a number of a second table or a block, once for each way that leads to it.
 type told struct {
-	cluster int
-	marked  bool
+	in, cluster int // where it stands, and what it tells
+	marked      bool
 }
 
 type judge struct {
@@ -33,7 +41,8 @@ type judge struct {
 	all   []told
 }
 
-// Sound reads a file that has to be sound, with noughts for what is missing at its end.
+// Sound reads a file that has to be sound, with noughts for what is missing at
+// its end; if it is not sound, the error is a Wrong.
 func Sound(file []api.Cluster) (Told, error) {
 	j, err := judged(file)
 	if err != nil {
@@ -49,19 +58,45 @@ func Exact(file []api.Cluster) error {
 		return err
 	}
 	if len(j.file) != len(file) {
-		return fault("clusters are missing, at", len(file))
+		return errors.New("clusters are missing at the end")
 	}
 	for n := range j.file {
 		if j.count(n) != j.used[n] {
-			return fault("too high a count of cluster", n)
+			return errors.New("too high a count of cluster " + strconv.Itoa(n))
 		}
 	}
 	for _, t := range j.all {
 		if j.used[t.cluster] == 1 && !t.marked {
-			return fault("no mark at the number of cluster", t.cluster)
+			return errors.New("no mark at the number of cluster " + strconv.Itoa(t.cluster))
 		}
 	}
 	return nil
+}
+
+// State is what Check has to tell of a sound file.
+func State(file []api.Cluster) api.State {
+	j, err := judged(file)
+	if err != nil {
+		return api.State{}
+	}
+	s := api.State{Clusters: len(j.file)}
+	for n := range j.file {
+		if j.used[n] > 0 {
+			s.Used++
+		}
+		if j.used[n] > 0 && j.count(n) > j.used[n] {
+			s.Over++
+		}
+		if j.used[n] == 0 && j.count(n) > 0 {
+			s.Lost++
+		}
+	}
+	for _, t := range j.all {
+		if j.used[t.cluster] == 1 && !t.marked {
+			s.Unmarked++
+		}
+	}
+	return s
 }
 
 func judged(file []api.Cluster) (*judge, error) {
@@ -76,17 +111,17 @@ func judged(file []api.Cluster) (*judge, error) {
 
 func (j *judge) head() error {
 	if len(j.file) < 6 || len(j.file) > api.MaxClusters {
-		return fault("clusters in all:", len(j.file))
+		return Wrong{0, "too few or too many clusters"}
 	}
 	n := number(j.file[0], 4)
 	if n < 7 || n > api.MaxClusters || n < len(j.file) {
-		return fault("clusters by the head:", n)
+		return Wrong{0, "a wrong number of clusters in the head"}
 	}
 	var plain api.Cluster
 	copy(plain[:], "VELM")
 	copy(plain[4:8], j.file[0][4:8])
 	if j.file[0] != plain {
-		return errors.New("the head is not as it must be")
+		return Wrong{0, "the head is not as it must be"}
 	}
 	for len(j.file) < n {
 		j.file = append(j.file, api.Cluster{})
@@ -109,7 +144,7 @@ func (j *judge) list() error {
 		other := func(c byte) bool { return c < 'a' || c > 'z' }
 		if ended || number(j.file[5], 16*i) == 0 || entry[14] != 0 || entry[15] != 0 ||
 			len(name) == 0 || slices.ContainsFunc(name, other) || slices.Contains(j.told.Names[:], string(name)) {
-			return fault("the list is not as it must be in entry", i)
+			return Wrong{5, "the list is not as it must be"}
 		}
 		j.told.Names[i] = string(name)
 	}
@@ -120,32 +155,33 @@ func (j *judge) tables() error {
 	for n := range 6 {
 		j.used[n] = 1
 	}
-	err := j.first(number(j.file[0], 6), &j.told.Disk)
+	err := j.first(0, number(j.file[0], 6), &j.told.Disk)
 	for i, name := range j.told.Names {
 		if err == nil && name != "" {
-			err = j.first(number(j.file[5], 16*i), &j.told.Pictures[i])
+			err = j.first(5, number(j.file[5], 16*i), &j.told.Pictures[i])
 		}
 	}
 	return err
 }
 
-func (j *judge) first(n int, out *[api.Blocks]api.Cluster) error {
-	if err := j.use(n, 'f'); err != nil {
+// first goes through a first table, the number of which stands in a cluster.
+func (j *judge) first(in, n int, out *[api.Blocks]api.Cluster) error {
+	if err := j.use(in, n, 'f'); err != nil {
 		return err
 	}
 	if j.used[n] > 1 {
-		return fault("told twice: the first table", n)
+		return Wrong{in, "a first table is told twice"}
 	}
 	for i := range 32 {
-		second, err := j.follow(j.file[n], i, 's')
+		second, err := j.follow(n, i, 's')
 		if err != nil {
 			return err
 		}
 		if second != 0 && i > 1 {
-			return fault("too many numbers in the first table", n)
+			return Wrong{n, "too many numbers in a first table"}
 		}
 		for k := 0; second != 0 && k < 32; k++ {
-			block, err := j.follow(j.file[second], k, 'b')
+			block, err := j.follow(second, k, 'b')
 			if err != nil {
 				return err
 			}
@@ -158,25 +194,25 @@ func (j *judge) first(n int, out *[api.Blocks]api.Cluster) error {
 }
 
 // follow uses what the i-th number of a table tells, if it tells anything.
-func (j *judge) follow(table api.Cluster, i int, kind byte) (int, error) {
-	x := number(table, 2*i)
+func (j *judge) follow(table, i int, kind byte) (int, error) {
+	x := number(j.file[table], 2*i)
 	if x == 0 {
 		return 0, nil
 	}
 	n := x &^ api.Mark
-	if err := j.use(n, kind); err != nil {
+	if err := j.use(table, n, kind); err != nil {
 		return 0, err
 	}
-	j.all = append(j.all, told{n, x != n})
+	j.all = append(j.all, told{table, n, x != n})
 	return n, nil
 }
 
-func (j *judge) use(n int, kind byte) error {
+func (j *judge) use(in, n int, kind byte) error {
 	if n < 6 || n >= len(j.file) {
-		return fault("told, but not to be told: cluster", n)
+		return Wrong{in, "a number tells no cluster that may be told"}
 	}
 	if j.kinds[n] != 0 && j.kinds[n] != kind {
-		return fault("told as two things: cluster", n)
+		return Wrong{in, "a cluster is told as two things"}
 	}
 	j.kinds[n] = kind
 	j.used[n]++
@@ -189,7 +225,7 @@ func (j *judge) counts() error {
 	for n := range api.MaxClusters {
 		c := j.count(n)
 		if c < j.used[n] || c == 255 || n >= len(j.file) && c != 0 {
-			return fault("a wrong count of cluster", n)
+			return Wrong{n, "a wrong count"}
 		}
 	}
 	return nil
@@ -198,7 +234,7 @@ func (j *judge) counts() error {
 func (j *judge) marks() error {
 	for _, t := range j.all {
 		if t.marked && (j.used[t.cluster] != 1 || j.count(t.cluster) != 1) {
-			return fault("a wrong mark at the number of cluster", t.cluster)
+			return Wrong{t.in, "a wrong mark"}
 		}
 	}
 	return nil
@@ -259,7 +295,3 @@ func some(file []api.Cluster, writes []api.Write, chosen int) []api.Cluster {
 func isFlush(w api.Write) bool { return w.Cluster == -1 }
 
 func number(c api.Cluster, at int) int { return int(c[at])<<8 | int(c[at+1]) }
-
-func fault(text string, n int) error {
-	return errors.New(text + " " + strconv.Itoa(n))
-}

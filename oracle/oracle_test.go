@@ -1,6 +1,7 @@
 package oracle
 
 import (
+	"errors"
 	"slices"
 	"testing"
 
@@ -52,33 +53,52 @@ func set(f []api.Cluster, n, at int, bytes string) []api.Cluster {
 
 func TestNotSound(t *testing.T) {
 	f := shared()
-	for name, g := range map[string][]api.Cluster{
-		"no clusters":            nil,
-		"too few":                f[:5],
-		"more than the head has": append(slices.Clone(f), api.Cluster{}),
-		"magic":                  set(f, 0, 0, "v"),
-		"head's end":             set(f, 0, 63, "x"),
-		"head tells 257":         set(f, 0, 4, "\x01\x01"),
-		"disk's table low":       set(f, 0, 6, "\x00\x05"),
-		"disk's table marked":    set(f, 0, 6, "\x80\x06"),
-		"disk's table twice":     set(f, 0, 6, "\x00\x09"),
-		"name":                   set(f, 5, 2, "N"),
-		"name with a gap":        set(f, 5, 3, "\x00"),
-		"entry's end":            set(f, 5, 15, "x"),
-		"entry behind a gap":     set(f, 5, 32, "\x00\x0bother"),
-		"name twice":             set(f, 5, 16, "\x00\x0bname"),
-		"third number":           set(f, 6, 4, "\x00\x07"),
-		"number behind the end":  set(f, 6, 2, "\x00\x0c"),
-		"block as a table":       set(f, 6, 2, "\x00\x08"),
-		"count too low":          set(f, 1, 8, "\x01"),
-		"count of 255":           set(f, 1, 8, "\xff"),
-		"count of what is not":   set(f, 4, 63, "\x01"),
-		"mark of a shared table": set(f, 6, 0, "\x80"),
-		"mark of a count of two": set(f, 1, 11, "\x02"),
+	for name, c := range map[string]struct {
+		file []api.Cluster
+		at   int
+	}{
+		"no clusters":            {nil, 0},
+		"too few":                {f[:5], 0},
+		"more than the head has": {append(slices.Clone(f), api.Cluster{}), 0},
+		"magic":                  {set(f, 0, 0, "v"), 0},
+		"head's end":             {set(f, 0, 63, "x"), 0},
+		"head tells 257":         {set(f, 0, 4, "\x01\x01"), 0},
+		"disk's table low":       {set(f, 0, 6, "\x00\x05"), 0},
+		"disk's table marked":    {set(f, 0, 6, "\x80\x06"), 0},
+		"disk's table twice":     {set(f, 0, 6, "\x00\x09"), 5},
+		"name":                   {set(f, 5, 2, "N"), 5},
+		"name with a gap":        {set(f, 5, 3, "\x00"), 5},
+		"entry's end":            {set(f, 5, 15, "x"), 5},
+		"entry behind a gap":     {set(f, 5, 32, "\x00\x0bother"), 5},
+		"name twice":             {set(f, 5, 16, "\x00\x0bname"), 5},
+		"third number":           {set(f, 6, 4, "\x00\x07"), 6},
+		"number behind the end":  {set(f, 6, 2, "\x00\x0c"), 6},
+		"block as a table":       {set(f, 6, 2, "\x00\x08"), 6},
+		"block as its table":     {set(f, 10, 0, "\x00\x0a"), 10},
+		"count too low":          {set(f, 1, 8, "\x01"), 8},
+		"count of 255":           {set(f, 1, 8, "\xff"), 8},
+		"count of what is not":   {set(f, 4, 63, "\x01"), 255},
+		"mark of a shared table": {set(f, 6, 0, "\x80"), 6},
+		"mark of a count of two": {set(f, 1, 11, "\x02"), 10},
 	} {
-		if _, err := Sound(g); err == nil {
-			t.Errorf("%s: sound", name)
+		var w Wrong
+		if _, err := Sound(c.file); !errors.As(err, &w) || w.At != c.at {
+			t.Errorf("%s: %v", name, err)
 		}
+	}
+}
+
+func TestState(t *testing.T) {
+	f := shared()
+	if s := State(f); s != (api.State{Clusters: 12, Used: 12}) {
+		t.Errorf("%+v", s)
+	}
+	f = set(set(set(f, 10, 2, "\x00"), 1, 0, "\x05\x03"), 9, 2, "\x00")
+	if s := State(f); s != (api.State{Clusters: 12, Used: 12, Over: 2, Unmarked: 2}) {
+		t.Errorf("%+v", s)
+	}
+	if s := State(set(f, 9, 2, "\x00\x00")); s != (api.State{Clusters: 12, Used: 10, Over: 2, Lost: 2}) {
+		t.Errorf("%+v", s)
 	}
 }
 

@@ -14,6 +14,15 @@ type File struct {
 	clusters []api.Cluster
 	log      []api.Write
 	loose    bool // something stands behind the last flush
+	short    bool // the end is missing where the file came from, and the log has not made it yet
+}
+
+// Of is a file that is there already and has a log from now on. It has to have
+// that length; noughts stand for what is missing at its end.
+func Of(clusters []api.Cluster, length int) File {
+	f := File{clusters: make([]api.Cluster, length), short: len(clusters) < length}
+	copy(f.clusters, clusters)
+	return f
 }
 
 // At is what a cluster holds.
@@ -26,11 +35,26 @@ func (f *File) Put(n int, data api.Cluster) {
 	if n < len(f.clusters) && f.clusters[n] == data {
 		return
 	}
+	f.Complete()
 	for len(f.clusters) <= n {
 		f.clusters = append(f.clusters, api.Cluster{})
 	}
 	f.clusters[n] = data
-	f.log = append(f.log, api.Write{Cluster: n, Data: data})
+	f.note(n)
+}
+
+// Complete makes the log lead to a file as long as this one, ahead of the first
+// write at the latest. A file that is only looked at is left as it came.
+func (f *File) Complete() {
+	if f.short {
+		f.short = false
+		f.note(len(f.clusters) - 1)
+	}
+}
+
+// note puts a cluster, as it is now, into the log.
+func (f *File) note(n int) {
+	f.log = append(f.log, api.Write{Cluster: n, Data: f.clusters[n]})
 	f.loose = true
 }
 

@@ -36,6 +36,57 @@ func TestPut(t *testing.T) {
 	}
 }
 
+// TestOf: the log begins with the file, and the file that came in is not kept.
+func TestOf(t *testing.T) {
+	given := []api.Cluster{x, y, x}
+	f := Of(given, 3)
+	given[0] = y
+	f.Put(1, y)
+	f.Flush()
+	if len(f.Log()) != 0 || !slices.Equal(f.Clusters(), []api.Cluster{x, y, x}) {
+		t.Errorf("clusters: %q, log: %v", f.Clusters(), f.Log())
+	}
+	f.Put(1, x)
+	f.Put(3, y)
+	f.Flush()
+	if want := []api.Write{{Cluster: 1, Data: x}, {Cluster: 3, Data: y}, flush}; !slices.Equal(f.Log(), want) {
+		t.Errorf("log: %v", f.Log())
+	}
+	if given[1] != y || !slices.Equal(f.Clusters(), []api.Cluster{x, x, x, y}) {
+		t.Errorf("clusters: %q, given: %q", f.Clusters(), given)
+	}
+}
+
+// TestOfShort: what is missing is noughts, whatever lies in the spare room, and
+// the first write is led by one that makes the file as long as it has to be.
+func TestOfShort(t *testing.T) {
+	room := []api.Cluster{x, y, y, y}
+	f := Of(room[:1], 3)
+	f.Put(2, api.Cluster{})
+	f.Flush()
+	if len(f.Log()) != 0 || !slices.Equal(f.Clusters(), []api.Cluster{x, {}, {}}) {
+		t.Errorf("clusters: %q, log: %v", f.Clusters(), f.Log())
+	}
+	f.Put(0, y)
+	f.Flush()
+	f.Put(0, x)
+	f.Flush()
+	want := []api.Write{{Cluster: 2}, {Cluster: 0, Data: y}, flush, {Cluster: 0, Data: x}, flush}
+	if !slices.Equal(f.Log(), want) {
+		t.Errorf("log: %v", f.Log())
+	}
+	if !slices.Equal(room, []api.Cluster{x, y, y, y}) {
+		t.Errorf("given: %q", room)
+	}
+	f = Of(room[:1], 3)
+	f.Complete()
+	f.Complete()
+	f.Flush()
+	if !slices.Equal(f.Log(), []api.Write{{Cluster: 2}, flush}) {
+		t.Errorf("log: %v", f.Log())
+	}
+}
+
 func TestNewMemory(t *testing.T) {
 	var f File
 	for n := range 5 {

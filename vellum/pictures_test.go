@@ -295,4 +295,7 @@ func TestFullDisk(t *testing.T) {
 	if n := len(d.File()); n != api.MaxClusters {
 		t.Errorf("P5: the file has %d clusters", n)
 	}
+	if telling(open(t, d.File())) != m.Told {
+		t.Errorf("P8: the full disk, opened, tells something else")
+	}
 }

@@ -2,6 +2,8 @@
 package vellum
 
 import (
+	"errors"
+
 	"vellum/api"
 	"vellum/volume"
 )
@@ -19,7 +21,22 @@ func (d *Disk) made() bool { return d != nil && d.inner != nil }
 func New() *Disk { return &Disk{inner: volume.New()} }
 
 // Open finds one in a file (P8).
-func Open(file []api.Cluster) (*Disk, int, api.Errno) { return nil, 0, api.OK }
+func Open(file []api.Cluster) (*Disk, int, api.Errno) {
+	inner, err := volume.Open(file)
+	if err != nil {
+		return nil, faulty(err), api.ErrForm
+	}
+	return &Disk{inner: inner}, 0, api.OK
+}
+
+// faulty is the cluster that an error tells.
+func faulty(err error) int {
+	var f volume.Fault
+	if errors.As(err, &f) {
+		return f.Cluster
+	}
+	return 0
+}
 
 // Read tells a block (P3).
 func (d *Disk) Read(block int) (api.Cluster, api.Errno) {
@@ -94,7 +111,16 @@ func (d *Disk) Log() []api.Write {
 }
 
 // Check tells how it stands (P8).
-func (d *Disk) Check() api.State { return api.State{} }
+func (d *Disk) Check() api.State {
+	if !d.made() {
+		return api.State{}
+	}
+	return d.inner.Check()
+}
 
 // Repair makes it exact (P8).
-func (d *Disk) Repair() {}
+func (d *Disk) Repair() {
+	if d.made() {
+		d.inner.Repair()
+	}
+}

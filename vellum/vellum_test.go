@@ -197,6 +197,10 @@ func TestNoDisk(t *testing.T) {
 		if d.File() != nil || d.Log() != nil || d.List() != nil {
 			t.Errorf("P1: a file where there is none")
 		}
+		d.Repair()
+		if s := d.Check(); s != (api.State{}) {
+			t.Errorf("P1: Check() = %+v where there is no file", s)
+		}
 	}
 }
 
@@ -236,6 +240,8 @@ func TestReadsWriteNothing(t *testing.T) {
 	}
 	d.List()
 	d.File()
+	d.Check()
+	d.Repair() // of what is exact
 	if !slices.Equal(d.Log(), log) {
 		t.Errorf("P6: the log has grown though nothing was written")
 	}

@@ -52,7 +52,7 @@ func free(v *Volume) int {
 
 // TestTakeLayout: example 3, and the list's bytes.
 func TestTakeLayout(t *testing.T) {
-	v := loaded(begun(t, 0))
+	v := opened(t, begun(t, 0))
 	if more := taken(t, v, "a"); more != 1 {
 		t.Errorf("example 3: Take has made the file %d longer", more)
 	}
@@ -96,7 +96,7 @@ func TestPicturesAtEveryCut(t *testing.T) {
 
 // TestReturnLayout: the disk's new first table takes a free cluster, and what was the disk's alone is free.
 func TestReturnLayout(t *testing.T) {
-	v := loaded(begun(t, 0, 40))
+	v := opened(t, begun(t, 0, 40))
 	taken(t, v, "a")
 	written(t, v, 0, text("y"))
 	written(t, v, 63, text("z"))
@@ -117,7 +117,7 @@ func TestReturnLayout(t *testing.T) {
 }
 
 func TestDropLayout(t *testing.T) {
-	v := loaded(begun(t, 0, 40))
+	v := opened(t, begun(t, 0, 40))
 	taken(t, v, "a")
 	dropped(t, v, "a")
 	exact(t, v)
@@ -150,7 +150,7 @@ func repeated(times int) []api.Cluster {
 
 // TestRepeated: what is told several times over is counted as often.
 func TestRepeated(t *testing.T) {
-	v := loaded(repeated(3))
+	v := opened(t, repeated(3))
 	exact(t, v)
 	taken(t, v, "a")
 	exact(t, v)
@@ -177,7 +177,7 @@ func TestRepeated(t *testing.T) {
 
 // TestRepeatedGone: a cluster whose uses all go at once is free, not lone.
 func TestRepeatedGone(t *testing.T) {
-	v := loaded(repeated(3))
+	v := opened(t, repeated(3))
 	taken(t, v, "a")
 	for n := range 64 {
 		written(t, v, n, text("own"))
@@ -192,7 +192,7 @@ func TestRepeatedGone(t *testing.T) {
 
 // TestMostUses: P4: a count of 254 may be, one above it not.
 func TestMostUses(t *testing.T) {
-	v := loaded(repeated(32))
+	v := opened(t, repeated(32))
 	taken(t, v, "a")
 	taken(t, v, "b")
 	refused(t, v, "Take", func() api.Errno { return v.Take("c") }, api.ErrFull)
@@ -204,7 +204,7 @@ func TestMostUses(t *testing.T) {
 		f := begun(t, 0)
 		f[spot[0]][0] = 0 // no mark
 		f[1][spot[1]] = 253
-		v := loaded(f)
+		v := opened(t, f)
 		taken(t, v, "a")
 		refused(t, v, name, func() api.Errno { return v.Take("b") }, api.ErrFull)
 		refused(t, v, name, func() api.Errno { return v.Return("a") }, api.ErrFull)
@@ -219,7 +219,7 @@ func TestMostUses(t *testing.T) {
 // TestPicturesFull: P4: a cluster has to be free; the last one may be taken.
 func TestPicturesFull(t *testing.T) {
 	for room := range 3 {
-		v := loaded(filled(pictured(begun(t, 0, 40), 0, "a"), room))
+		v := opened(t, filled(pictured(begun(t, 0, 40), 0, "a"), room))
 		if room == 0 {
 			refused(t, v, "Take", func() api.Errno { return v.Take("b") }, api.ErrFull)
 			refused(t, v, "Return", func() api.Errno { return v.Return("a") }, api.ErrFull)
@@ -243,7 +243,7 @@ func TestPicturesFull(t *testing.T) {
 
 // TestFourPictures: P4: with room left, a fifth is refused and the others go on.
 func TestFourPictures(t *testing.T) {
-	v := loaded(begun(t, 0, 63))
+	v := opened(t, begun(t, 0, 63))
 	for _, name := range []string{"d", "c", "b", "a"} {
 		taken(t, v, name)
 		written(t, v, 0, text("behind "+name))
@@ -272,7 +272,7 @@ func TestPicturesNotExact(t *testing.T) {
 	} {
 		f := begun(t, 0, 1, 63)
 		spoil(f)
-		v := loaded(f)
+		v := opened(t, f)
 		if oracle.Exact(f) == nil {
 			t.Errorf("%s: exact", name)
 		}

@@ -3,6 +3,7 @@ package volume
 import (
 	"iter"
 
+	"vellum/api"
 	"vellum/layout"
 )
 
@@ -81,6 +82,24 @@ func (v *Volume) renumber(first int, change func(layout.Number) layout.Number) {
 		}
 		v.file.Put(table, changed.Cluster())
 	}
+}
+
+// useCounts is how often each cluster is used. In a file that may not be sound
+// this can be more than a count can say.
+type useCounts [api.MaxClusters]int
+
+// uses counts how often each cluster is used.
+func (v *Volume) uses() useCounts {
+	var uses useCounts
+	for n := range layout.FirstAt {
+		uses[n] = 1 // the head, the counts and the list
+	}
+	for first := range v.firsts() {
+		for n := range v.held(first) {
+			uses[n]++
+		}
+	}
+	return uses
 }
 
 // spot is a place in a table where a number stands that is not 0.

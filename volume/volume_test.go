@@ -16,13 +16,13 @@ func text(s string) api.Cluster {
 	return c
 }
 
-// loaded: a disk in a file that the test has made.
-func loaded(file []api.Cluster) *Volume {
-	v := &Volume{}
-	for n, c := range file {
-		v.file.Put(n, c)
+// opened: a disk in a file that the test has made.
+func opened(t *testing.T, file []api.Cluster) *Volume {
+	t.Helper()
+	v, err := Open(file)
+	if err != nil {
+		t.Fatalf("P8: Open: %v", err)
 	}
-	v.file.Flush()
 	return v
 }
 
@@ -146,7 +146,7 @@ func exact(t *testing.T, v *Volume) {
 
 // TestWriteShared: with a picture there, a block is written beside what they share (example 3).
 func TestWriteShared(t *testing.T) {
-	v := loaded(pictured(begun(t, 0, 1, 32), 0, "a"))
+	v := opened(t, pictured(begun(t, 0, 1, 32), 0, "a"))
 	exact(t, v)
 	for i, step := range []struct {
 		block, more int
@@ -163,7 +163,7 @@ func TestWriteSharedByMany(t *testing.T) {
 	for i, name := range []string{"a", "bc", "d", "efghijklmnop"} {
 		f = pictured(f, i, name)
 	}
-	v := loaded(f)
+	v := opened(t, f)
 	exact(t, v)
 	r := rand.New(rand.NewSource(3))
 	for range 200 {
@@ -178,7 +178,7 @@ func TestWriteSharedByMany(t *testing.T) {
 func TestWriteFull(t *testing.T) {
 	plain := begun(t, 0, 1)
 	shared := pictured(plain, 0, "a")
-	half := loaded(shared)
+	half := opened(t, shared)
 	written(t, half, 0, text("own")) // block 1 is still shared, its second table not
 	for name, c := range map[string]struct {
 		file         []api.Cluster
@@ -193,7 +193,7 @@ func TestWriteFull(t *testing.T) {
 		"block shared":      {half.File(), 1, 1},
 	} {
 		for free := range 4 {
-			v := loaded(filled(c.file, free))
+			v := opened(t, filled(c.file, free))
 			if free >= c.needs {
 				written(t, v, c.block, text("new"))
 				continue
@@ -215,7 +215,7 @@ func TestLowestFree(t *testing.T) {
 	}
 	f[7] = table.Cluster()
 	gaps := []int{9, 11}
-	v := loaded(f)
+	v := opened(t, f)
 	exact(t, v)
 	if more := written(t, v, 40, text("x")); more != 0 {
 		t.Errorf("P5: the file is %d longer though two clusters were free", more)
@@ -240,7 +240,7 @@ func TestWriteNotExact(t *testing.T) {
 	} {
 		f := begun(t, 0, 1, 63)
 		spoil(f)
-		v := loaded(f)
+		v := opened(t, f)
 		if oracle.Exact(f) == nil {
 			t.Errorf("%s: exact", name)
 		}
